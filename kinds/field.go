@@ -4,6 +4,7 @@ import (
 	"slices"
 
 	"solenoid/api"
+	"solenoid/names"
 )
 
 const (
@@ -22,21 +23,7 @@ func (k kind) single() bool { return k >= api.Bool && k <= api.Time }
 // name is what a field is called.
 type name string
 
-func (s name) plain() bool {
-	if len(s) < 1 || len(s) > maxName || !letter(s[0]) {
-		return false
-	}
-	for _, sign := range []byte(s) {
-		if !letter(sign) && !digit(sign) {
-			return false
-		}
-	}
-	return true
-}
-
-func letter(sign byte) bool { return sign >= 'a' && sign <= 'z' }
-
-func digit(sign byte) bool { return sign >= '0' && sign <= '9' }
+func (s name) plain() bool { return names.Plain(string(s), maxName) }
 
 func (s name) among(l ...api.Field) bool {
 	return slices.ContainsFunc(l, func(f api.Field) bool { return f.Name == string(s) })
